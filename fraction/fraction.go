@@ -156,6 +156,21 @@ func (x Fraction) Ceil() Fraction {
 	return x.Neg().Floor().Neg()
 }
 
+// Common returns integers and an integer greater than 0 that are the numerators and the common denominator of the numbers of a list.
+func Common(list []Fraction) ([]Fraction, Fraction) {
+	den := single(1)
+	for _, x := range list {
+		missing, _ := divide(x.denominator(), commonDivisor(den, x.denominator()))
+		den = times(den, missing)
+	}
+	numerators := make([]Fraction, len(list))
+	for i, x := range list {
+		factor, _ := divide(den, x.denominator())
+		numerators[i] = Fraction{neg: x.neg, num: times(x.num, factor)}
+	}
+	return numerators, Fraction{num: den}
+}
+
 func (x Fraction) denominator() whole {
 	if len(x.den) == 0 {
 		return single(1)

@@ -191,6 +191,26 @@ func TestFractions(t *testing.T) {
 	}
 }
 
+func TestCommon(t *testing.T) {
+	r := rand.New(rand.NewSource(4))
+	for range 1000 {
+		list, least := make([]Fraction, r.Intn(5)), big.NewInt(1)
+		for i := range list {
+			list[i] = randomFraction(r, 2)
+			den := value(list[i]).Denom()
+			least.Mul(least, new(big.Int).Div(den, new(big.Int).GCD(nil, nil, least, den)))
+		}
+		numerators, den := Common(list)
+		expectFraction(t, "common denominator", den, new(big.Rat).SetInt(least))
+		if len(numerators) != len(list) {
+			t.Fatalf("%d numerators of %d numbers", len(numerators), len(list))
+		}
+		for i, x := range list {
+			expectFraction(t, "numerator", numerators[i], new(big.Rat).Mul(value(x), value(den)))
+		}
+	}
+}
+
 func TestDivByZero(t *testing.T) {
 	for _, x := range []Fraction{{}, FromInt(3), FromInt(-3)} {
 		if q, ok := x.Div(Fraction{}); ok || q.Sign() != 0 {

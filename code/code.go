@@ -54,8 +54,17 @@ func full(p api.Point, before int) api.Point {
 
 // Append returns b with the encodings of numbers from 0 to api.MaxVar appended.
 func Append(b []byte, numbers ...int) []byte {
+	return appendAll(b, link.Number, numbers)
+}
+
+// AppendSigned returns b with the encodings of signed numbers from -2^61 to 2^61 - 1 appended.
+func AppendSigned(b []byte, numbers ...int) []byte {
+	return appendAll(b, link.Signed, numbers)
+}
+
+func appendAll(b []byte, write func([]byte, int) ([]byte, api.Errno), numbers []int) []byte {
 	for _, n := range numbers {
-		b = append(b, written(link.Number, n)...)
+		b = append(b, written(write, n)...)
 	}
 	return b
 }

@@ -81,12 +81,29 @@ func TestNumbers(t *testing.T) {
 	}
 }
 
+func TestSigned(t *testing.T) {
+	list := []int{0, -1, 1, -2, 63, -64, 64, -1 << 61, 1<<61 - 1}
+	b := code.AppendSigned([]byte{9}, list...)
+	if !bytes.Equal(b[:9], []byte{9, 0, 1, 2, 3, 126, 127, 0x80, 1}) {
+		t.Errorf("the numbers are %x", b)
+	}
+	r := code.NewReader(b[1:])
+	for i, n := range list {
+		if got := r.Signed(); got != n || r.Ended() != (i == len(list)-1) {
+			t.Errorf("%d comes back as %d", n, got)
+		}
+	}
+	if got := code.AppendSigned([]byte{9}); !bytes.Equal(got, []byte{9}) {
+		t.Errorf("no numbers are %x", got)
+	}
+}
+
 // Behind what cannot be read there are zeros, and the reader never ends well.
 func TestBadBytes(t *testing.T) {
 	for _, bad := range [][]byte{{}, {0x80}, {0x80, 0}, bytes.Repeat([]byte{255}, 12)} {
 		r := code.NewReader(bad)
 		for range 3 {
-			if r.Number() != 0 || r.Count() != 0 || len(r.Points()) != 0 || r.Ended() {
+			if r.Number() != 0 || r.Signed() != 0 || r.Count() != 0 || len(r.Points()) != 0 || r.Ended() {
 				t.Errorf("%x can be read", bad)
 			}
 		}

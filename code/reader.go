@@ -31,6 +31,11 @@ func (r *Reader) Number() int {
 	return r.next(link.ReadNumber)
 }
 
+// Signed reads a signed number.
+func (r *Reader) Signed() int {
+	return r.next(link.ReadSigned)
+}
+
 // Count reads how many items follow, each of which has a byte at least: nobody needs to count further than there are bytes.
 func (r *Reader) Count() int {
 	n := r.Number()
